@@ -1,0 +1,40 @@
+"""What the interface lists exists under its name, in its file, with its arguments."""
+
+import importlib
+import inspect
+import unittest
+
+# For each file its functions, each with its arguments; times=2 is an argument with a value when left out.
+FUNCTIONS = {
+    "webs": {
+        "is_whole": ["thing"], "look_at_web": ["thing"], "is_tied": ["web", "one", "other"], "neighbours": ["web", "place"],
+    },
+    "ways": {
+        "distances": ["web", "place"], "table": ["web"], "shortest": ["web", "one", "other"], "hangs_together": ["web"],
+        "pieces": ["web"], "within": ["web", "places"],
+    },
+    "rows": {
+        "look_at_webs": ["thing"], "is_row": ["webs", "thing"], "places_of": ["webs"], "ties_of": ["webs"],
+        "number_of": ["webs", "row"], "row_of": ["webs", "number"], "rows_tied": ["webs", "one", "other"],
+        "rows_beside": ["webs", "row"],
+    },
+    "products": {"product": ["webs"], "power": ["web", "times=2"]},
+}
+
+
+class TheInterface(unittest.TestCase):
+    def test_functions(self):
+        for file, functions in FUNCTIONS.items():
+            module = importlib.import_module("webtimes." + file)
+            for name, awaited in functions.items():
+                function = getattr(module, name)
+                self.assertTrue(inspect.isfunction(function), name)
+                self.assertEqual(function.__module__, "webtimes." + file, name)
+                parameters = inspect.signature(function).parameters.values()
+                self.assertEqual([str(parameter) for parameter in parameters], awaited, name)
+                for parameter in parameters:
+                    self.assertEqual(parameter.kind, parameter.POSITIONAL_OR_KEYWORD, name)
+
+
+if __name__ == "__main__":
+    unittest.main()

@@ -1,0 +1,1 @@
+"""Webtimes: webs told as products."""
