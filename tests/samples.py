@@ -42,11 +42,15 @@ def many_ties():
 # A triangle with a tail, two ties, a place alone: pieces of several kinds.
 IN_PIECES = (8, [(0, 3), (0, 5), (2, 7), (3, 5), (4, 5)])
 
+# The product of two ties, and of a path of three places and a tie.
+SQUARE = (4, [(0, 1), (0, 2), (1, 3), (2, 3)])
+LADDER = (6, [(0, 1), (0, 2), (1, 3), (2, 3), (2, 4), (3, 5), (4, 5)])
+
 HANGING = [
     bare(1), path(2), path(3), path(5), ring(3), ring(4), ring(5), ring(6), full(4), full(5), star(5), star(6),
     petersen(), full(16), path(40), ring(40), many_ties(),
     (4, [(0, 1), (0, 2), (1, 2), (2, 3)]), (5, [(0, 1), (0, 3), (1, 2), (1, 4), (2, 3), (3, 4)]),
-    (6, [(0, 1), (0, 2), (1, 3), (2, 3), (2, 4), (3, 5), (4, 5)]),
+    SQUARE, LADDER,
 ]
 ASUNDER = [bare(2), bare(40), (3, [(0, 1)]), (3, [(1, 2)]), IN_PIECES]
 WEBS = HANGING + ASUNDER

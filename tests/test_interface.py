@@ -7,7 +7,8 @@ import unittest
 # For each file its functions, each with its arguments; times=2 is an argument with a value when left out.
 FUNCTIONS = {
     "webs": {
-        "is_whole": ["thing"], "look_at_web": ["thing"], "is_tied": ["web", "one", "other"], "neighbours": ["web", "place"],
+        "is_whole": ["thing"], "look_at_web": ["thing"], "is_tied": ["web", "one", "other"],
+        "neighbours": ["web", "place"],
     },
     "ways": {
         "distances": ["web", "place"], "table": ["web"], "shortest": ["web", "one", "other"], "hangs_together": ["web"],
@@ -19,6 +20,17 @@ FUNCTIONS = {
         "rows_beside": ["webs", "row"],
     },
     "products": {"product": ["webs"], "power": ["web", "times=2"]},
+    "factorings": {"lets_factoring": ["web", "thing"], "own_factoring": ["webs"]},
+    "layers": {
+        "direction": ["factoring", "one", "other"], "place_with": ["factoring", "row"],
+        "layer": ["factoring", "place", "number"], "gate": ["factoring", "place", "other", "number"],
+        "gathered": ["factoring", "groups"],
+    },
+    "links": {
+        "is_far": ["web", "tie", "other"], "is_corner": ["web", "tie", "other"], "lets_link": ["web", "thing"],
+    },
+    "chains": {"lets_links": ["web", "thing"], "hung": ["web", "links"], "shows_prime": ["web", "thing"]},
+    "classes": {"links_of": ["web"], "classes": ["web"]},
 }
 
 

@@ -10,10 +10,10 @@ PACKAGE = pathlib.Path(__file__).resolve().parent.parent / "webtimes"
 FILES = sorted(PACKAGE.glob("*.py"))
 
 BUILTINS = set(
-    "len range enumerate zip min max sum abs sorted reversed int str bool bytes list tuple dict set frozenset isinstance"
-    " ord repr any all divmod Exception ValueError TypeError KeyError IndexError LookupError ZeroDivisionError"
-    " ArithmeticError OverflowError RuntimeError NotImplementedError AttributeError StopIteration NotImplemented"
-    " super iter next map".split()
+    "len range enumerate zip min max sum abs sorted reversed int str bool bytes list tuple dict set frozenset"
+    " isinstance ord repr any all divmod Exception ValueError TypeError KeyError IndexError LookupError"
+    " ZeroDivisionError ArithmeticError OverflowError RuntimeError NotImplementedError AttributeError StopIteration"
+    " NotImplemented super iter next map".split()
 )
 NO_NAMES = set(
     "register mro elements open input law version_info with_traceback add_note attrgetter breakpoint builtins compile"
@@ -21,9 +21,9 @@ NO_NAMES = set(
     " methodcaller os quit setattr type vars sys".split()
 )
 METHODS = set(
-    "append clear copy count endswith extend find get index insert isalnum isalpha isdigit islower isspace isupper items"
-    " join keys ljust lower lstrip partition pop remove replace reverse rfind rjust rpartition rsplit rstrip setdefault"
-    " split splitlines startswith strip update upper values zfill bit_length sort add discard".split()
+    "append clear copy count endswith extend find get index insert isalnum isalpha isdigit islower isspace isupper"
+    " items join keys ljust lower lstrip partition pop remove replace reverse rfind rjust rpartition rsplit rstrip"
+    " setdefault split splitlines startswith strip update upper values zfill bit_length sort add discard".split()
 )
 NO_NODES = (
     ast.Global, ast.AsyncFunctionDef, ast.AsyncFor, ast.AsyncWith, ast.Await, ast.GeneratorExp, ast.Import, ast.Div,
@@ -53,7 +53,8 @@ def bound_at_top(tree):
 def bound_within(tree):
     """Names of parameters and variables."""
     names = [node.arg for node in ast.walk(tree) if isinstance(node, ast.arg)]
-    return names + [node.id for node in ast.walk(tree) if isinstance(node, ast.Name) and isinstance(node.ctx, ast.Store)]
+    variables = [node for node in ast.walk(tree) if isinstance(node, ast.Name)]
+    return names + [node.id for node in variables if isinstance(node.ctx, ast.Store)]
 
 
 class Files(unittest.TestCase):

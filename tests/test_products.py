@@ -1,8 +1,8 @@
 import unittest
 
 from samples import (
-    WEBS, WEBS_LISTS, bare, check_fresh, check_kinds, check_no_web, check_no_webs, from_pairs, full, path,
-    petersen, product_by_words, ring, star,
+    LADDER, SQUARE, WEBS, WEBS_LISTS, bare, check_fresh, check_kinds, check_no_web, check_no_webs, from_pairs, full,
+    path, petersen, product_by_words, ring, star,
 )
 from webtimes.errors import TooBig
 from webtimes.products import power, product
@@ -18,9 +18,9 @@ class Product(unittest.TestCase):
 
     def test_told(self):
         check_kinds(self, product([]), (1, []))
-        check_kinds(self, product([path(2), path(2)]), (4, [(0, 1), (0, 2), (1, 3), (2, 3)]))
+        check_kinds(self, product([path(2), path(2)]), SQUARE)
         check_kinds(self, product([path(2), path(3)]), (6, [(0, 1), (0, 3), (1, 2), (1, 4), (2, 5), (3, 4), (4, 5)]))
-        check_kinds(self, product([path(3), path(2)]), (6, [(0, 1), (0, 2), (1, 3), (2, 3), (2, 4), (3, 5), (4, 5)]))
+        check_kinds(self, product([path(3), path(2)]), LADDER)
         check_kinds(self, product([bare(2), path(2)]), (4, [(0, 1), (2, 3)]))
 
     def test_one_web_is_itself(self):
@@ -119,14 +119,10 @@ class Power(unittest.TestCase):
 
     def test_by_name_and_fresh(self):
         self.assertEqual(power(times=1, web=ring(5)), ring(5))
-        self.assertEqual(power(web=path(2)), ring_of_four())
+        self.assertEqual(power(web=path(2)), SQUARE)
         check_fresh(self, power, path(3))
         check_fresh(self, power, path(3), 1)
         check_fresh(self, power, path(3), 0)
-
-
-def ring_of_four():
-    return (4, [(0, 1), (0, 2), (1, 3), (2, 3)])
 
 
 if __name__ == "__main__":

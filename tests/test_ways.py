@@ -2,8 +2,8 @@ import itertools
 import unittest
 
 from samples import (
-    ASUNDER, HANGING, IN_PIECES, NO_PLACES, ODD, WEBS, bare, check_fresh, check_kinds, check_no_web, full, many_ties,
-    path, petersen, ring, star, table_by_words,
+    ASUNDER, HANGING, IN_PIECES, LADDER, NO_PLACES, ODD, WEBS, bare, check_fresh, check_kinds, check_no_web, full,
+    many_ties, path, petersen, ring, star, table_by_words,
 )
 from webtimes.errors import NoPlace
 from webtimes.ways import distances, hangs_together, pieces, shortest, table, within
@@ -163,8 +163,7 @@ class Within(unittest.TestCase):
         check_kinds(self, within(bare(1), [0]), (1, []))
 
     def test_all_lists_of_places(self):
-        ladder = (6, [(0, 1), (0, 2), (1, 3), (2, 3), (2, 4), (3, 5), (4, 5)])
-        for web in (full(5), ring(6), star(6), IN_PIECES, ladder):
+        for web in (full(5), ring(6), star(6), IN_PIECES, LADDER):
             for size in range(1, web[0] + 1):
                 for places in itertools.combinations(range(web[0]), size):
                     ties = [(a, b) for a in range(size) for b in range(a + 1, size) if (places[a], places[b]) in web[1]]
