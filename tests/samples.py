@@ -59,6 +59,13 @@ PRIMES = [
     path(2), path(3), path(4), ring(3), ring(5), full(4), star(4), star(5), (4, [(0, 1), (0, 2), (1, 2), (2, 3)]),
 ]
 
+# Webs that are prime or not, some alike, whose product is a web.
+PRODUCTS = [
+    [path(2)], [path(2), path(2)], [path(3), path(2)], [ring(3), ring(5)], [path(2), full(4), path(3)], [path(2)] * 5,
+    [full(4), petersen()], [path(3), path(3), path(3)], [petersen(), path(2)], [path(2), path(3), path(2), path(3)],
+    [PRIMES[-1], path(4)], [path(20), path(2)],
+]
+
 WEBS_LISTS = [
     [], [bare(1)], [path(2)], [bare(1), bare(1)], [path(3), path(2)], [path(2), path(3)], [ring(4), bare(1), path(2)],
     [IN_PIECES, path(3)], [bare(2), path(2)], [ring(3), bare(2), path(2)], [path(2)] * 5, [full(4), petersen()],
@@ -188,6 +195,47 @@ def turned_factoring(webs, seed):
     for k, row in enumerate(rows):
         new_rows[order[k]] = row
     return turned(product_by_words(webs), order), (copy.deepcopy(webs), new_rows)
+
+
+def led_to(ties, place):
+    """The places to which these ties lead from the place, it too."""
+    found = {place}
+    ahead = None
+    while found != ahead:
+        ahead = set(found)
+        found |= {one for one, other in ties if other in ahead} | {other for one, other in ties if one in ahead}
+    return found
+
+
+def is_naming_by_words(one, other, numbers):
+    """Whether a list of whole numbers is a naming."""
+    if len(numbers) != one[0] or sorted(numbers) != list(range(other[0])):
+        return False
+    pairs = itertools.combinations(range(one[0]), 2)
+    return all((pair in one[1]) == (tuple(sorted([numbers[pair[0]], numbers[pair[1]]])) in other[1]) for pair in pairs)
+
+
+def namings_by_words(one, other):
+    """All namings between two small webs."""
+    if one[0] != other[0]:
+        return []
+    orders = itertools.permutations(range(one[0]))
+    return [list(order) for order in orders if is_naming_by_words(one, other, order)]
+
+
+def exchanged_naming(webs, seed):
+    """Two products of the webs, in two orders, all called anew, and a naming from the one to the other."""
+    chance = random.Random(seed)
+    order = called_anew(len(webs), chance.random())
+    numbers = [called_anew(many, chance.random()) for many, _ in webs]
+    others = [turned(webs[k], numbers[k]) for k in order]
+    rows, other_rows = rows_by_order(webs), rows_by_order(others)
+    places, other_places = called_anew(len(rows), chance.random()), called_anew(len(rows), chance.random())
+    naming = [None] * len(rows)
+    for at, row in enumerate(rows):
+        led = [numbers[k][row[k]] for k in order]
+        naming[places[at]] = other_places[other_rows.index(led)]
+    return turned(product_by_words(webs), places), turned(product_by_words(others), other_places), naming
 
 
 def lists_in(thing):

@@ -1,20 +1,14 @@
 import unittest
 
 from samples import (
-    HANGING, LADDER, PRIMES, bare, check_apart, check_fresh, check_kinds, check_no_web, full, many_ties, path, petersen,
-    ring, turned_factoring,
+    HANGING, LADDER, PRIMES, PRODUCTS, bare, check_apart, check_fresh, check_kinds, check_no_web, full, many_ties, path,
+    petersen, ring, turned_factoring,
 )
 from test_chains import every_link, hung_by_words
 from webtimes.chains import hung, lets_links
 from webtimes.classes import classes, links_of
 from webtimes.layers import direction
 from webtimes.ways import hangs_together
-
-PRODUCTS = [
-    [path(2)], [path(2), path(2)], [path(3), path(2)], [ring(3), ring(5)], [path(2), full(4), path(3)], [path(2)] * 5,
-    [full(4), petersen()], [path(3), path(3), path(3)], [petersen(), path(2)], [path(2), path(3), path(2), path(3)],
-    [PRIMES[-1], path(4)], [path(20), path(2)],
-]
 
 
 class Classes(unittest.TestCase):

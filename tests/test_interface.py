@@ -31,6 +31,14 @@ FUNCTIONS = {
     },
     "chains": {"lets_links": ["web", "thing"], "hung": ["web", "links"], "shows_prime": ["web", "thing"]},
     "classes": {"links_of": ["web"], "classes": ["web"]},
+    "factors": {"factored": ["web"], "is_prime": ["web"], "prime_or_parted": ["web"]},
+    "partings": {"grouped": ["web", "factoring"]},
+    "namings": {
+        "lets_naming": ["one", "other", "thing"], "renumbered": ["web", "numbers"], "turned_back": ["naming"],
+        "behind": ["first", "second"],
+    },
+    "parts": {"parted_naming": ["one", "other", "naming"], "joined_naming": ["one", "other", "parts"]},
+    "taken": {"cancelled": ["one", "other", "third", "naming"]},
 }
 
 

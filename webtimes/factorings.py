@@ -44,3 +44,13 @@ def own_factoring(webs):
     factors = [(many, list(ties)) for many, ties in webs if many > 1]
     # Webs of one place change no row's number: so that of its row of the other webs is the same.
     return (factors, [numbered_row(factors, number) for number in range(count_rows(webs))])
+
+
+def side_by_side(factorings):
+    """Tell the factoring of a product that has the webs of all these factorings of its webs."""
+    webs = []
+    rows = [[]]
+    for own_webs, own_rows in factorings:
+        webs = webs + own_webs
+        rows = [row + own_row for row in rows for own_row in own_rows]
+    return (webs, rows)

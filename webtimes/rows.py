@@ -1,7 +1,7 @@
 """Rows of webs: their numbers, and which of them are tied."""
 
 from webtimes.errors import NoPlace, NoWebs
-from webtimes.webs import beside_all, is_place, web_fault
+from webtimes.webs import as_tie, beside_all, is_place, web_fault
 
 MOST_WEBS = 12
 
@@ -67,7 +67,7 @@ def are_tied(webs, one, other):
     if len(unlike) != 1:
         return False
     at = unlike[0]
-    return (min(one[at], other[at]), max(one[at], other[at])) in webs[at][1]
+    return as_tie(one[at], other[at]) in webs[at][1]
 
 
 def tied_rows(webs, row):

@@ -31,6 +31,14 @@ def look_at_hanging(thing):
         raise Apart("the web doesn't hang together")
 
 
+def look_at_all_hanging(things):
+    """Refuse the first thing that is no web with NoWeb, then webs in several pieces with Apart."""
+    for thing in things:
+        look_at_web(thing)
+    for web in things:
+        look_at_hanging(web)
+
+
 def distances(web, place):
     """Tell the distances of the place to all places, None where there is no way."""
     look_at_web(web)

@@ -53,6 +53,11 @@ def look_at_place(web, thing):
         raise NoPlace("no place of the web")
 
 
+def as_tie(one, other):
+    """Tell the tuple of two unlike places, the lesser ahead."""
+    return (min(one, other), max(one, other))
+
+
 def is_tie(web, thing):
     """Tell of anything whether it is a tuple of the web's list of ties."""
     # Looked at ahead of `in`, to which a truth or 1.0 would be as good as 1.
@@ -81,7 +86,7 @@ def is_tied(web, one, other):
     look_at_web(web)
     look_at_place(web, one)
     look_at_place(web, other)
-    return (min(one, other), max(one, other)) in web[1]
+    return as_tie(one, other) in web[1]
 
 
 def neighbours(web, place):
