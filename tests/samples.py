@@ -223,6 +223,39 @@ def namings_by_words(one, other):
     return [list(order) for order in orders if is_naming_by_words(one, other, order)]
 
 
+def near_sets(web):
+    """For each place the set of those tied to it."""
+    near = [set() for _ in range(web[0])]
+    for one, other in web[1]:
+        near[one].add(other)
+        near[other].add(one)
+    return near
+
+
+def namings_by_search(one, other, start=0, end=None):
+    """All namings between two webs that hang together, from place to place along the ties; from start to end alone."""
+    near, far = near_sets(one), near_sets(other)
+    order, parents = [start], {}
+    for place in order:
+        for beside in sorted(near[place] - set(order)):
+            order.append(beside)
+            parents[beside] = place
+
+    def grown(names):
+        if len(names) == len(order):
+            yield [names[place] for place in range(one[0])]
+            return
+        place = order[len(names)]
+        ends = range(other[0]) if end is None else [end]
+        for to in sorted(far[names[parents[place]]]) if names else ends:
+            fits = len(near[place]) == len(far[to]) and to not in names.values()
+            if fits and all((there in near[place]) == (led in far[to]) for there, led in names.items()):
+                yield from grown({**names, place: to})
+
+    if one[0] == other[0] and len(one[1]) == len(other[1]):
+        yield from grown({})
+
+
 def exchanged_naming(webs, seed):
     """Two products of the webs, in two orders, all called anew, and a naming from the one to the other."""
     chance = random.Random(seed)

@@ -39,6 +39,14 @@ FUNCTIONS = {
     },
     "parts": {"parted_naming": ["one", "other", "naming"], "joined_naming": ["one", "other", "parts"]},
     "taken": {"cancelled": ["one", "other", "third", "naming"]},
+    "raised": {"lowered": ["one", "other", "naming", "times=2"]},
+    "alike": {"alike": ["one", "other"]},
+    "likeness": {"like_factors": ["web"]},
+    "roots": {"root_of": ["web", "times=2"]},
+    "keeping": {
+        "primes_of": ["webs"], "like_groups": ["webs"], "kept_many": ["webs"], "alike_products": ["ones", "others"],
+        "orbits": ["web"],
+    },
 }
 
 
