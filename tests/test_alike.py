@@ -33,8 +33,9 @@ UNLIKE = [
 ]
 SMALL = [
     bare(1), bare(7), path(2), path(7), ring(7), full(7), star(7), (7, [(0, 3), (0, 5)]), SQUARE, LADDER,
-    side_by_side(path(2), path(2), path(2)), side_by_side(ring(4), ring(3)), from_pairs(7, [(0, 3), (3, 5), (5, 6), (1, 2)]),
-    product_by_words([ring(3), path(2)]), side_by_side(bare(3), full(4)),
+    side_by_side(path(2), path(2), path(2)), side_by_side(ring(4), ring(3)),
+    from_pairs(7, [(0, 3), (3, 5), (5, 6), (1, 2)]), product_by_words([ring(3), path(2)]),
+    side_by_side(bare(3), full(4)),
 ]
 
 
@@ -101,7 +102,8 @@ class Alike(unittest.TestCase):
 
     def test_by_name_and_fresh(self):
         self.assertIn(alike(other=star(3), one=path(3)), ([1, 0, 2], [2, 0, 1]))
-        for one, other in [(bare(1), bare(1)), (ring(4), SQUARE), (full(7), full(7)), (path(3), ring(3)), (bare(2), bare(2))]:
+        pairs = [(bare(1), bare(1)), (ring(4), SQUARE), (full(7), full(7)), (path(3), ring(3)), (bare(2), bare(2))]
+        for one, other in pairs:
             check_fresh(self, alike, one, other)
 
 

@@ -2,8 +2,8 @@ import itertools
 import unittest
 
 from samples import (
-    HANGING, LADDER, PRIMES, PRODUCTS, SQUARE, bare, check_apart, check_fresh, check_kinds, check_no_web, from_pairs, full,
-    led_to, many_ties, namings_by_words, path, petersen, product_by_words, ring, star, turned, turned_factoring,
+    HANGING, LADDER, PRIMES, PRODUCTS, SQUARE, bare, check_apart, check_fresh, check_kinds, check_no_web, from_pairs,
+    full, led_to, many_ties, namings_by_words, path, petersen, product_by_words, ring, star, turned, turned_factoring,
 )
 from webtimes.chains import shows_prime
 from webtimes.classes import classes

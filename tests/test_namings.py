@@ -16,7 +16,8 @@ NO_THREE = ODD + [
     [], [0], [0, 1], [0, 1, 2, 3], [0, 1, 2, 0], [0, 0, 1], [0, 1, 1], [2, 1, 2], [1, 1, 1], [1, 2, 3], [0, 1, 3],
     [-1, 0, 1], [0, 1, -1], [False, 1, 2], [0, True, 2], [0, 1, 2.0], [0.0, 1, 2], ["0", "1", "2"], [None, 0, 1],
     (0, 1, 2), "012", {0: 0, 1: 1, 2: 2}, {0, 1, 2}, range(3), [[0], [1], [2]], [[0, 1, 2]], ([0, 1, 2],),
-    [Spiteful(), 1, 2], [0, 1, Spiteful()], [0, [1], 2], [0, (1,), 2], [0, {}, 2], [0, 1, 10 ** 40], [0, 1, 2, Spiteful()],
+    [Spiteful(), 1, 2], [0, 1, Spiteful()], [0, [1], 2], [0, (1,), 2], [0, {}, 2], [0, 1, 10 ** 40],
+    [0, 1, 2, Spiteful()],
 ]
 
 
@@ -118,7 +119,8 @@ class Renumbered(unittest.TestCase):
 def two_namings():
     """Pairs of namings, the second from where the first leads, with the three webs."""
     told = []
-    for webs in ([path(3), path(2)], [ring(3), path(2)], [path(2)] * 4, [path(2), bare(1)], [bare(1)], [full(4), petersen()]):
+    lists = [[path(3), path(2)], [ring(3), path(2)], [path(2)] * 4, [path(2), bare(1)], [bare(1)]]
+    for webs in lists + [[full(4), petersen()]]:
         for seed in (1, 2):
             one, other, first = exchanged_naming(webs, seed)
             second = called_anew(other[0], seed)

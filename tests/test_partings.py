@@ -1,8 +1,8 @@
 import unittest
 
 from samples import (
-    HANGING, LADDER, SQUARE, bare, check_apart, check_fresh, check_kinds, check_no_web, from_pairs, full, many_ties, path,
-    petersen, ring, turned_factoring,
+    HANGING, LADDER, SQUARE, bare, check_apart, check_fresh, check_kinds, check_no_web, from_pairs, full, many_ties,
+    path, petersen, ring, turned_factoring,
 )
 from test_factors import factored_by_words
 from test_layers import groupings

@@ -72,7 +72,8 @@ class PartedNaming(unittest.TestCase):
     def test_no_naming(self):
         namings = [
             [], [0, 1, 2], [0, 1, 2, 3, 3], [0, 1, 2, 2], [0, 1, 2, 4], [-1, 0, 1, 2], [0, 3, 1, 2], [0, 1, 3, 2],
-            (0, 1, 2, 3), [False, True, 2, 3], [0.0, 1, 2, 3], [0, 1, 2, Spiteful()], [[0], [1], [2], [3]], ([0], [[0, 1]]),
+            (0, 1, 2, 3), [False, True, 2, 3], [0.0, 1, 2, 3], [0, 1, 2, Spiteful()], [[0], [1], [2], [3]],
+            ([0], [[0, 1]]),
         ]
         for thing in ODD + namings:
             with self.assertRaises(NoNaming):
@@ -157,11 +158,12 @@ class JoinedNaming(unittest.TestCase):
             ([-1, 0], [same, same]), ((0, 1), [same, same]), ([0, 1], (same, same)), [[0, 1], [same, same]],
             ([0, 1], [same, same], []), ([0, 1],), ([False, True], [same, same]), ([0.0, 1], [same, same]),
             ([0, 1], [same, [0, 0]]), ([0, 1], [[1, 1], same]), ([0, 1], [same, [0]]), ([0, 1], [same, [0, 1, 2]]),
-            ([0, 1], [same, (0, 1)]), ([0, 1], [same, [False, True]]), ([0, 1], [same, [-1, 0]]), ([0, 1], [same, None]),
-            ([0, 1], [same, [0, 2]]), ([0, 1], [same, "01"]), ([None, 0], [same, same]), ([0, Spiteful()], [same, same]),
-            ([0, 1], [same, Spiteful()]), ([0, 1], [same, [0, Spiteful()]]), (Spiteful(), [same, same]),
-            ([0, 1], Spiteful()), ([0, 1], None), (None, [same, same]), ([0, 1], {0: same, 1: same}), [0, 1, 2, 3],
-            ({0: 0, 1: 1}, [same, same]), ("01", [same, same]), ([[0], [1]], [same, same]), ([0, 10 ** 40], [same, same]),
+            ([0, 1], [same, (0, 1)]), ([0, 1], [same, [False, True]]), ([0, 1], [same, [-1, 0]]),
+            ([0, 1], [same, None]), ([0, 1], [same, [0, 2]]), ([0, 1], [same, "01"]), ([None, 0], [same, same]),
+            ([0, Spiteful()], [same, same]), ([0, 1], [same, Spiteful()]), ([0, 1], [same, [0, Spiteful()]]),
+            (Spiteful(), [same, same]), ([0, 1], Spiteful()), ([0, 1], None), (None, [same, same]),
+            ([0, 1], {0: same, 1: same}), [0, 1, 2, 3], ({0: 0, 1: 1}, [same, same]), ("01", [same, same]),
+            ([[0], [1]], [same, same]), ([0, 10 ** 40], [same, same]),
         ]
         for thing in ODD + things:
             for one, other in [(SQUARE, ring(4)), (ring(4), ring(4))]:
@@ -187,8 +189,10 @@ class JoinedNaming(unittest.TestCase):
                             joined_naming(webs[a], webs[b], parts)
 
     def test_another_number_of_factors(self):
+        same = [0, 1]
+        things = [([0], [same]), ([1], [same]), ([0, 1], [same, same]), ([], []), ([0, 0], [same, same])]
         for one, other in [(SQUARE, path(2)), (path(2), SQUARE), (bare(1), path(2)), (path(2), bare(1))]:
-            for parts in [([0], [[0, 1]]), ([1], [[0, 1]]), ([0, 1], [[0, 1], [0, 1]]), ([], []), ([0, 0], [[0, 1], [0, 1]])]:
+            for parts in things:
                 with self.assertRaises(NoNaming):
                     joined_naming(one, other, parts)
 

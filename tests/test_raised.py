@@ -41,9 +41,10 @@ def power_case(primes, times, seed):
 
 RAISED = [
     ([path(2)], 5), ([path(2)], 2), ([path(2)], 3), ([path(2)], 1), ([path(2), path(2)], 2), ([path(2), path(3)], 2),
-    ([path(2), ring(3)], 2), ([path(3)], 3), ([ring(3)], 3), ([path(3)], 2), ([path(4)], 2), ([star(4)], 2), ([path(6)], 2),
-    ([full(5)], 2), ([ring(6)], 2), ([], 1), ([], 2), ([], 12), ([petersen()], 1), ([many_ties()], 1), ([path(2)] * 5, 1),
-    ([path(3), path(2), path(3), path(2)], 1), ([(4, [(0, 1), (0, 2), (1, 2), (2, 3)])], 2), ([ring(5)], 2),
+    ([path(2), ring(3)], 2), ([path(3)], 3), ([ring(3)], 3), ([path(3)], 2), ([path(4)], 2), ([star(4)], 2),
+    ([path(6)], 2), ([full(5)], 2), ([ring(6)], 2), ([], 1), ([], 2), ([], 12), ([petersen()], 1), ([many_ties()], 1),
+    ([path(2)] * 5, 1), ([path(3), path(2), path(3), path(2)], 1), ([(4, [(0, 1), (0, 2), (1, 2), (2, 3)])], 2),
+    ([ring(5)], 2),
 ]
 
 
@@ -117,7 +118,8 @@ class Lowered(unittest.TestCase):
         for web, times in [(path(7), 2), (path(2), 6), (path(4), 3), (path(2), 12)]:
             with self.assertRaises(TooBig):
                 lowered(web, web, list(range(web[0] ** times)), times)
-        eleven = (6, [(a, b) for a, b in itertools.combinations(range(6), 2) if (a, b) not in ((0, 1), (2, 3), (4, 5))][:11])
+        left_out = [(0, 1), (2, 3), (4, 5)]
+        eleven = (6, [pair for pair in itertools.combinations(range(6), 2) if pair not in left_out][:11])
         with self.assertRaises(TooBig):
             lowered(eleven, eleven, list(range(36)))
         with self.assertRaises(TooBig):

@@ -1,31 +1,22 @@
 import unittest
 
 from samples import (
-    HANGING, LADDER, PRIMES, SQUARE, bare, check_apart, check_fresh, check_kinds, check_no_web, full, is_naming_by_words,
-    many_ties, namings_by_words, path, petersen, product_by_words, ring, star, turned, turned_factoring,
+    HANGING, LADDER, PRIMES, SQUARE, bare, check_apart, check_fresh, check_kinds, check_no_web, full,
+    is_naming_by_words, many_ties, namings_by_words, path, petersen, product_by_words, ring, star, turned,
+    turned_factoring,
 )
-from test_factors import LISTS, factored_by_words
-from test_likeness import MORE, TAILED
+from test_factors import LISTS
+from test_likeness import MORE, TAILED, like_by_words
 from webtimes.roots import root_of
 
 # What is raised, and by how much.
 RAISED = [
-    ([path(2)], 2), ([path(2)], 3), ([path(2)], 4), ([path(2)], 5), ([path(2)], 1), ([path(2), path(2)], 2), ([path(3)], 2),
-    ([path(3)], 3), ([ring(3)], 3), ([path(2), path(3)], 2), ([path(2), ring(3)], 2), ([star(4)], 2), ([TAILED], 2),
-    ([path(6)], 2), ([ring(6)], 2), ([full(5)], 2), ([], 1), ([], 2), ([], 12), ([], 13), ([petersen()], 1),
-    ([many_ties()], 1), ([path(20), path(2)], 1), ([full(4), petersen()], 1), ([path(2)] * 5, 1),
+    ([path(2)], 2), ([path(2)], 3), ([path(2)], 4), ([path(2)], 5), ([path(2)], 1), ([path(2), path(2)], 2),
+    ([path(3)], 2), ([path(3)], 3), ([ring(3)], 3), ([path(2), path(3)], 2), ([path(2), ring(3)], 2), ([star(4)], 2),
+    ([TAILED], 2), ([path(6)], 2), ([ring(6)], 2), ([full(5)], 2), ([], 1), ([], 2), ([], 12), ([], 13),
+    ([petersen()], 1), ([many_ties()], 1), ([path(20), path(2)], 1), ([full(4), petersen()], 1), ([path(2)] * 5, 1),
     ([path(3), path(2), path(3), path(2)], 1), ([path(8), ring(5)], 1),
 ]
-
-
-def like_by_words(web):
-    """For each told factor the numbers of those alike to it."""
-    factors = factored_by_words(web)[0]
-    return [
-        [k for k in range(len(factors)) if k == number or (
-            max(factors[k][0], factors[number][0]) <= 6 and namings_by_words(factors[number], factors[k]))]
-        for number in range(len(factors))
-    ]
 
 
 class RootOf(unittest.TestCase):

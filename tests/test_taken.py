@@ -4,7 +4,8 @@ import unittest
 
 from samples import (
     ODD, SQUARE, Spiteful, bare, called_anew, check_apart, check_fresh, check_kinds, check_no_web, full,
-    is_naming_by_words, many_ties, namings_by_words, path, petersen, product_by_words, ring, rows_by_order, star, turned,
+    is_naming_by_words, many_ties, namings_by_words, path, petersen, product_by_words, ring, rows_by_order, star,
+    turned,
 )
 from webtimes.errors import Apart, NoNaming, NoWeb, TooBig
 from webtimes.taken import cancelled
@@ -44,12 +45,12 @@ def mixed_case(ones, thirds, seed):
 
 MIXED = [
     ([path(2)], [path(2)]), ([path(2)], [path(2)] * 2), ([path(2)], [path(2)] * 4), ([path(2)] * 2, [path(2)] * 2),
-    ([path(2)] * 4, [path(2)]), ([path(3)], [path(3)]), ([path(3)], [path(3), path(2)]), ([path(3)], [path(3), path(3)]),
-    ([path(2), path(3)], [path(3), path(2)]), ([ring(3)], [path(2), ring(3)]), ([ring(3), path(2)], [ring(3)]),
-    ([star(4)], [star(4), path(2)]), ([path(4)], [star(4)]), ([ring(5)], [ring(5)]), ([full(4)], [petersen()]),
-    ([], [path(2), path(3)]), ([path(2), path(3)], []), ([], []), ([petersen()], [path(3)]), ([path(6)], [path(6)]),
-    ([(4, [(0, 1), (0, 2), (1, 2), (2, 3)])], [(4, [(0, 1), (0, 2), (1, 2), (2, 3)])]), ([many_ties()], []),
-    ([], [many_ties()]),
+    ([path(2)] * 4, [path(2)]), ([path(3)], [path(3)]), ([path(3)], [path(3), path(2)]),
+    ([path(3)], [path(3), path(3)]), ([path(2), path(3)], [path(3), path(2)]), ([ring(3)], [path(2), ring(3)]),
+    ([ring(3), path(2)], [ring(3)]), ([star(4)], [star(4), path(2)]), ([path(4)], [star(4)]), ([ring(5)], [ring(5)]),
+    ([full(4)], [petersen()]), ([], [path(2), path(3)]), ([path(2), path(3)], []), ([], []), ([petersen()], [path(3)]),
+    ([path(6)], [path(6)]), ([(4, [(0, 1), (0, 2), (1, 2), (2, 3)])], [(4, [(0, 1), (0, 2), (1, 2), (2, 3)])]),
+    ([many_ties()], []), ([], [many_ties()]),
 ]
 
 
@@ -69,8 +70,9 @@ class Cancelled(unittest.TestCase):
 
     def test_all_namings_of_small_products(self):
         trios = [
-            (path(2), path(2), path(2)), (path(2), path(2), SQUARE), (SQUARE, ring(4), path(2)), (path(2), path(2), path(3)),
-            (path(3), star(3), path(2)), (ring(3), ring(3), path(2)), (bare(1), bare(1), SQUARE), (SQUARE, ring(4), bare(1)),
+            (path(2), path(2), path(2)), (path(2), path(2), SQUARE), (SQUARE, ring(4), path(2)),
+            (path(2), path(2), path(3)), (path(3), star(3), path(2)), (ring(3), ring(3), path(2)),
+            (bare(1), bare(1), SQUARE), (SQUARE, ring(4), bare(1)),
         ]
         for one, other, third in trios:
             left, right = product_by_words([one, third]), product_by_words([other, third])
