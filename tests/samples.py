@@ -98,6 +98,14 @@ ODD = [
 # What is no place of a web of two places, and no number of a row of webs that have two.
 NO_PLACES = [thing for thing in ODD if not isinstance(thing, tuple)] + [2, 3, (0, 1), -2]
 
+# Webs, and what is no row of them.
+TRIPLE = [path(3), bare(1), ring(4)]
+NO_ROWS = [
+    [], [0], [0, 0], [0, 0, 0, 0], (0, 0, 0), [3, 0, 0], [-1, 0, 0], [0, 1, 0], [0, -1, 0], [0, 0, 4], [0, 0, -1],
+    [True, 0, 0], [0, False, 0], [0, 0, True], [0, 0, 1.0], ["0", 0, 0], [0, 0, None], [[0], 0, 0], [[0, 0, 0]], 0,
+    "000", {0: 0, 1: 0, 2: 0}, range(1), [0, 0, Spiteful()], [Spiteful(), 0, 0],
+]
+
 MANY_TIES_121 = list(itertools.combinations(range(17), 2))[:121]
 
 # What is no web, by the part of its refusal.
@@ -342,3 +350,21 @@ def check_apart(case, call):
     for web in ASUNDER:
         with case.assertRaises(Apart):
             call(web)
+
+
+def row_refusals(case, function, many):
+    """The function of webs and so many rows of them refuses what are no webs, then what is no row."""
+    from webtimes.errors import NoPlace
+    check_no_webs(case, lambda webs: function(webs, *[None] * many))
+    check_no_webs(case, lambda webs: function(webs, *[[0]] * many))
+    for thing in NO_ROWS + ODD:
+        for at in range(many):
+            rows = [[0, 0, 0] for _ in range(many)]
+            rows[at] = thing
+            with case.assertRaises(NoPlace):
+                function(TRIPLE, *rows)
+        with case.assertRaises(NoPlace):
+            function(TRIPLE, *[thing] * many)
+    for thing in [thing for thing in ODD if not (isinstance(thing, list) and len(thing) == 0)] + [[0], [[]]]:
+        with case.assertRaises(NoPlace):
+            function([], *[[]] * (many - 1), thing)

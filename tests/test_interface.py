@@ -47,6 +47,17 @@ FUNCTIONS = {
         "primes_of": ["webs"], "like_groups": ["webs"], "kept_many": ["webs"], "alike_products": ["ones", "others"],
         "orbits": ["web"],
     },
+    "small": {"small_webs": ["places"]},
+    "counts": {
+        "far": ["webs", "one", "other"], "ways_many": ["webs", "one", "other"],
+        "walks_many": ["webs", "one", "other", "steps=1"], "by_distance": ["webs", "row"], "widest": ["webs"],
+        "threes": ["webs"], "fours": ["webs"],
+    },
+    "hulls": {"hull": ["web", "places"], "hull_sides": ["webs", "rows"]},
+    "colours": {
+        "lets_colours": ["web", "thing"], "mixed": ["webs", "colourings"], "fewest_colours": ["web"],
+    },
+    "layouts": {"lets_layout": ["web", "thing"]},
 }
 
 

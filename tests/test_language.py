@@ -25,6 +25,12 @@ METHODS = set(
     " items join keys ljust lower lstrip partition pop remove replace reverse rfind rjust rpartition rsplit rstrip"
     " setdefault split splitlines startswith strip update upper values zfill bit_length sort add discard".split()
 )
+# What may be imported from outside the package.
+LIBRARY = {
+    "heapq": {"heappush", "heappop", "heapify", "heapreplace", "heappushpop"},
+    "math": {"gcd", "lcm", "isqrt", "comb", "perm", "factorial"},
+    "itertools": {"product", "combinations", "permutations"},
+}
 NO_NODES = (
     ast.Global, ast.AsyncFunctionDef, ast.AsyncFor, ast.AsyncWith, ast.Await, ast.GeneratorExp, ast.Import, ast.Div,
 )
@@ -34,8 +40,13 @@ def trees():
     return [(path, ast.parse(path.read_text())) for path in FILES]
 
 
-def imports_of(tree):
+def all_imports_of(tree):
     return [node for node in tree.body if isinstance(node, ast.ImportFrom)]
+
+
+def imports_of(tree):
+    """Imports from files of the package."""
+    return [node for node in all_imports_of(tree) if node.module not in LIBRARY]
 
 
 def bound_at_top(tree):
@@ -104,6 +115,16 @@ class Names(unittest.TestCase):
             read = [node.id for node in ast.walk(tree) if isinstance(node, ast.Name)]
             self.assertEqual([name for name in names if name not in read], [], path)
 
+    def test_names_of_the_library_are_only_called(self):
+        for path, tree in trees():
+            nodes = [node for node in all_imports_of(tree) if node.module in LIBRARY]
+            called = [node.func for node in ast.walk(tree) if isinstance(node, ast.Call) and not node.keywords]
+            for name in [name for node in nodes for name in node.names]:
+                self.assertIn(name.name, [name for node in nodes for name in LIBRARY[node.module]], path)
+                self.assertIsNone(name.asname)
+                read = [node for node in ast.walk(tree) if isinstance(node, ast.Name) and node.id == name.name]
+                self.assertTrue(read and all(node in called for node in read), path)
+
     def test_no_two_files_import_from_each_other(self):
         to = {path.stem: {node.module.removeprefix("webtimes.") for node in imports_of(tree)} for path, tree in trees()}
         while to:
@@ -117,7 +138,7 @@ class Names(unittest.TestCase):
             top = bound_at_top(tree)
             self.assertEqual(len(top), len(set(top)), path)
             classes = [node.name for node in tree.body if isinstance(node, ast.ClassDef)]
-            taken = {name.name for node in imports_of(tree) for name in node.names} | set(classes)
+            taken = {name.name for node in all_imports_of(tree) for name in node.names} | set(classes)
             within = bound_within(tree)
             self.assertFalse((set(within) - set(bound_at_top(tree))) & taken, path)
             functions = [node for node in ast.walk(tree) if isinstance(node, ast.FunctionDef)]

@@ -1,19 +1,13 @@
 import unittest
 
 from samples import (
-    IN_PIECES, NO_PLACES, ODD, WEBS, WEBS_LISTS, Spiteful, bare, check_fresh, check_kinds, check_no_webs, full, path,
-    product_by_words, ring, rows_by_order, star, tied_by_words,
+    IN_PIECES, NO_PLACES, NO_ROWS, ODD, TRIPLE, WEBS, WEBS_LISTS, bare, check_fresh, check_kinds, check_no_webs, full,
+    path, product_by_words, ring, rows_by_order, star, tied_by_words,
 )
 from webtimes.errors import NoPlace
 from webtimes.rows import is_row, look_at_webs, number_of, places_of, row_of, rows_beside, rows_tied, ties_of
 
 BIG = [path(40)] * 12
-TRIPLE = [path(3), bare(1), ring(4)]
-NO_ROWS = [
-    [], [0], [0, 0], [0, 0, 0, 0], (0, 0, 0), [3, 0, 0], [-1, 0, 0], [0, 1, 0], [0, -1, 0], [0, 0, 4], [0, 0, -1],
-    [True, 0, 0], [0, False, 0], [0, 0, True], [0, 0, 1.0], ["0", 0, 0], [0, 0, None], [[0], 0, 0], [[0, 0, 0]], 0,
-    "000", {0: 0, 1: 0, 2: 0}, range(1), [0, 0, Spiteful()], [Spiteful(), 0, 0],
-]
 
 
 class LookAtWebs(unittest.TestCase):
