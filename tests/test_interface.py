@@ -58,6 +58,23 @@ FUNCTIONS = {
         "lets_colours": ["web", "thing"], "mixed": ["webs", "colourings"], "fewest_colours": ["web"],
     },
     "layouts": {"lets_layout": ["web", "thing"]},
+    "finest": {"finest": ["web"], "laid_by": ["web", "layout"]},
+    "books": {"look_at_book": ["thing"], "sum_of": ["book", "web"], "web_by": ["book", "total"]},
+    "texts": {"show_web": ["web"], "show_webs": ["webs"], "read_web": ["text"], "read_webs": ["text"]},
+}
+
+# For each class its file, what it is made of, and its methods with their arguments.
+CLASSES = {
+    "Sum": ("sums", ["terms", "kinds=1"], {
+        "terms": [], "kinds": [], "added": ["other"], "multiplied": ["other"], "divided": ["other"], "__eq__": ["other"],
+        "__len__": [], "__repr__": [], "__str__": [],
+    }),
+    "Keeper": ("keeper", ["webs"], {
+        "put": ["number", "web"], "take": ["number"], "flip": ["number", "one", "other"], "go": ["row"], "undo": [],
+        "webs": [], "stand": [], "places": [], "ties": [], "far_from": ["row"], "beside": [], "by_distance": [],
+        "primes": [], "__eq__": ["other"], "__len__": [], "__repr__": [], "__str__": [],
+    }),
+    "Desk": ("desk", [], {"say": ["row"]}),
 }
 
 
@@ -73,6 +90,20 @@ class TheInterface(unittest.TestCase):
                 self.assertEqual([str(parameter) for parameter in parameters], awaited, name)
                 for parameter in parameters:
                     self.assertEqual(parameter.kind, parameter.POSITIONAL_OR_KEYWORD, name)
+
+    def test_classes(self):
+        for name, (file, made_of, methods) in CLASSES.items():
+            made = getattr(importlib.import_module("webtimes." + file), name)
+            self.assertTrue(inspect.isclass(made), name)
+            self.assertEqual((made.__module__, made.__bases__), ("webtimes." + file, (object,)))
+            for method, awaited in [("__init__", made_of), *methods.items()]:
+                # Defined in the class itself.
+                function = vars(made)[method]
+                self.assertTrue(inspect.isfunction(function), (name, method))
+                parameters = list(inspect.signature(function).parameters.values())
+                self.assertEqual([str(parameter) for parameter in parameters], ["self"] + awaited, (name, method))
+                for parameter in parameters:
+                    self.assertEqual(parameter.kind, parameter.POSITIONAL_OR_KEYWORD, (name, method))
 
 
 if __name__ == "__main__":

@@ -68,6 +68,12 @@ def bound_within(tree):
     return names + [node.id for node in variables if isinstance(node.ctx, ast.Store)]
 
 
+def classes_of(tree):
+    """The classes with their methods."""
+    classes = [node for node in tree.body if isinstance(node, ast.ClassDef)]
+    return [(node, [part for part in node.body if isinstance(part, ast.FunctionDef)]) for node in classes]
+
+
 class Files(unittest.TestCase):
     def test_the_folder_has_files_of_python_alone(self):
         names = [path.name for path in PACKAGE.iterdir() if path.name != "__pycache__"]
@@ -151,12 +157,43 @@ class Names(unittest.TestCase):
 
     def test_only_listed_builtins_and_methods(self):
         own = {name for path, tree in trees() for name in bound_at_top(tree)}
+        own |= {method.name for path, tree in trees() for _, methods in classes_of(tree) for method in methods}
         for path, tree in trees():
             for node in ast.walk(tree):
                 if isinstance(node, ast.Name) and hasattr(builtins, node.id):
                     self.assertIn(node.id, BUILTINS, path)
                 if isinstance(node, ast.Call) and isinstance(node.func, ast.Attribute):
                     self.assertIn(node.func.attr, METHODS | own | {"__init__"}, path)
+
+
+class Classes(unittest.TestCase):
+    def test_methods_and_attributes_are_apart(self):
+        for path, tree in trees():
+            for node, methods in classes_of(tree):
+                names = [method.name for method in methods]
+                self.assertEqual(len(names), len(set(names)), path)
+                stored = [part.attr for part in ast.walk(node) if isinstance(part, ast.Attribute)
+                          and isinstance(part.ctx, ast.Store)]
+                self.assertFalse(set(stored) & set(names), path)
+                self.assertFalse(set(stored) & METHODS, path)
+
+    def test_double_underscore_methods(self):
+        for path, tree in trees():
+            for node, methods in classes_of(tree):
+                for method in methods:
+                    returns = [part.value for part in ast.walk(method) if isinstance(part, ast.Return)]
+                    if method.name == "__init__":
+                        self.assertEqual(returns, [], path)
+                    elif method.name.startswith("__"):
+                        self.assertIn(method.name, ("__eq__", "__len__", "__repr__", "__str__"))
+                        # One statement alone, which tells something: so nothing is changed.
+                        self.assertEqual(len(method.body), 1)
+                        self.assertEqual(len(returns), 1, path)
+                    if method.name == "__len__":
+                        self.assertEqual(returns[0].func.id, "len")
+                    if method.name in ("__repr__", "__str__"):
+                        repeated = isinstance(returns[0], ast.Call) and returns[0].func.id == "repr"
+                        self.assertTrue(isinstance(returns[0], ast.JoinedStr) or repeated, path)
 
 
 class Statements(unittest.TestCase):
