@@ -1,8 +1,7 @@
 """Chains of links: the ties that they hang, and what shows a web prime."""
 
-from webtimes.links import makes_link
-from webtimes.ways import far_table, look_at_hanging
-from webtimes.webs import beside_all
+from webtimes.links import are_links
+from webtimes.ways import look_at_hanging
 
 MOST_LINKS = 120
 
@@ -10,6 +9,8 @@ MOST_LINKS = 120
 def head_of(heads, tie):
     """Tell the tie that stands for all that hang with this one."""
     while heads[tie] != tie:
+        # Each is led on by two, as chains would else grow long.
+        heads[tie] = heads[heads[tie]]
         tie = heads[tie]
     return tie
 
@@ -28,11 +29,7 @@ def hung_by(ties, links):
 
 def makes_links(web, thing):
     """Tell of anything whether it is links of a web that hangs together."""
-    if not isinstance(thing, list) or len(thing) > MOST_LINKS:
-        return False
-    beside = beside_all(web)
-    far = far_table(beside)
-    return all([makes_link(web, far, beside, link) for link in thing])
+    return isinstance(thing, list) and len(thing) <= MOST_LINKS and are_links(web, thing)
 
 
 def lets_links(web, thing):

@@ -1,24 +1,21 @@
 """The finest layout of a web, and by what any other one is laid."""
 
-from webtimes.chains import hung_by
 from webtimes.layers import direction
-from webtimes.links import far_linked
-from webtimes.ways import far_table, look_at_hanging, pieces
+from webtimes.linked import far_bits, joined, lists_by
+from webtimes.ways import look_at_hanging, pieces_by
 from webtimes.webs import as_tie, beside_all
 
 
 def far_classes(web):
-    """Tell the lists of ties that links with the word `far` hang."""
+    """Tell the lists of ties that links with the word `far` hang, of a web that hangs together."""
     ties = web[1]
-    far = far_table(beside_all(web))
-    pairs = [(tie, other) for at, tie in enumerate(ties) for other in ties[:at]]
-    return hung_by(ties, [("far", tie, other) for tie, other in pairs if far_linked(far, tie, other)])
+    return lists_by(ties, joined(far_bits(beside_all(web), ties))[1])
 
 
-def piece_numbers(many, ties):
-    """Tell for each of so many places the number of its piece by these ties."""
-    numbers = [0 for _ in range(many)]
-    for number, piece in enumerate(pieces((many, ties))):
+def piece_numbers(beside):
+    """Tell for each place the number of its piece, from the lists of places tied to each."""
+    numbers = [0 for _ in beside]
+    for number, piece in enumerate(pieces_by(beside)):
         for place in piece:
             numbers[place] = number
     return numbers
@@ -31,7 +28,8 @@ def finest(web):
     webs = []
     columns = []
     for own_ties in far_classes(web):
-        column = piece_numbers(many, [tie for tie in ties if tie not in own_ties])
+        own = {tie: True for tie in own_ties}
+        column = piece_numbers(beside_all((many, [tie for tie in ties if tie not in own])))
         webs.append((max(column) + 1, sorted({as_tie(column[one], column[other]) for one, other in own_ties})))
         columns.append(column)
     return (webs, [[column[place] for column in columns] for place in range(many)])

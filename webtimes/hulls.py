@@ -2,7 +2,7 @@
 
 from webtimes.errors import NoPlace
 from webtimes.rows import look_at_webs, makes_row
-from webtimes.ways import far_table, look_at_all_hanging
+from webtimes.ways import far_table, refuse_apart
 from webtimes.webs import beside_all, is_place, look_at_web
 
 
@@ -54,6 +54,6 @@ def look_at_rows(webs, thing):
 def hull_sides(webs, rows):
     """Tell for each web the hull of what stands for it in the rows."""
     look_at_webs(webs)
-    look_at_all_hanging(webs)
+    refuse_apart(webs)
     look_at_rows(webs, rows)
     return [hull_by(far_table(beside_all(web)), [row[at] for row in rows]) for at, web in enumerate(webs)]

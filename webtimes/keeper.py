@@ -5,7 +5,7 @@ from webtimes.errors import NoDeed, NoPlace, TooBig
 from webtimes.keeping import all_primes
 from webtimes.rows import MOST_WEBS, are_tied, count_rows, count_ties, look_at_row, look_at_webs, tied_rows
 from webtimes.texts import written_webs
-from webtimes.ways import look_at_all_hanging
+from webtimes.ways import refuse_apart
 from webtimes.webs import MOST_TIES, as_tie, is_place, look_at_place, look_at_web
 
 
@@ -128,5 +128,5 @@ class Keeper:
 
     def primes(self):
         """Tell the primes of the webs."""
-        look_at_all_hanging(self._webs)
+        refuse_apart(self._webs)
         return all_primes(self._webs)

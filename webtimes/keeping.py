@@ -5,7 +5,7 @@ from webtimes.errors import TooBig
 from webtimes.factors import told_factoring
 from webtimes.likeness import like_lists
 from webtimes.rows import look_at_webs
-from webtimes.ways import look_at_all_hanging, look_at_hanging, pieces
+from webtimes.ways import look_at_hanging, pieces, refuse_apart
 from webtimes.webs import as_tie, beside_all
 
 
@@ -27,7 +27,7 @@ def all_primes(webs):
 def primes_of(webs):
     """Tell the told factors of the first web, then of the second, and so on."""
     look_at_webs(webs)
-    look_at_all_hanging(webs)
+    refuse_apart(webs)
     return all_primes(webs)
 
 
@@ -79,7 +79,7 @@ def alike_products(ones, others):
     """Tell whether the products of the two lists of webs are alike."""
     look_at_webs(ones)
     look_at_webs(others)
-    look_at_all_hanging(ones + others)
+    refuse_apart(ones + others)
     own = all_primes(ones)
     primes = own + all_primes(others)
     look_at_primes(primes)

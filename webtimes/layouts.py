@@ -1,7 +1,7 @@
 """Layouts: webs, and a row of them for each place of a web, without a changed distance."""
 
 from webtimes.rows import makes_row
-from webtimes.ways import far_table, hangs_together, look_at_hanging
+from webtimes.ways import far_table, hangs, look_at_hanging
 from webtimes.webs import beside_all, web_fault
 
 MOST_LAID = 80
@@ -12,7 +12,7 @@ def are_laid(thing):
     # More webs than that have more places.
     if not isinstance(thing, list) or len(thing) > MOST_LAID:
         return False
-    if not all([web_fault(web) is None and hangs_together(web) for web in thing]):
+    if not all([web_fault(web) is None and hangs(web) for web in thing]):
         return False
     return sum([web[0] for web in thing]) <= MOST_LAID
 

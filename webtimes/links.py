@@ -1,7 +1,7 @@
 """Links: two ties that have one direction in every factoring."""
 
 from webtimes.ways import far_table, look_at_hanging
-from webtimes.webs import beside_all, is_tie, look_at_tie
+from webtimes.webs import beside_all, joins_places, look_at_tie
 
 
 def far_linked(far, tie, other):
@@ -20,16 +20,27 @@ def corner_linked(beside, tie, other):
     return [place for place in beside[one] if place in beside[two]] == common
 
 
-def makes_link(web, far, beside, thing):
-    """Tell of anything whether it is a link of the web with that table and those lists."""
+def makes_link(ties, far, beside, thing):
+    """Tell of anything whether it is a link of the web with these ties, a dict, that table and those lists."""
     if not isinstance(thing, tuple) or len(thing) != 3:
         return False
     word, tie, other = thing
-    if not isinstance(word, str) or not is_tie(web, tie) or not is_tie(web, other):
+    # Looked at ahead of `in`, as in is_tie.
+    if not isinstance(word, str) or not joins_places(len(beside), tie) or not joins_places(len(beside), other):
+        return False
+    if tie not in ties or other not in ties:
         return False
     if word == "far":
         return far_linked(far, tie, other)
     return word == "corner" and corner_linked(beside, tie, other)
+
+
+def are_links(web, things):
+    """Tell of things, each of which may be anything, whether all are links of a web that hangs together."""
+    ties = {tie: True for tie in web[1]}
+    beside = beside_all(web)
+    far = far_table(beside)
+    return all([makes_link(ties, far, beside, thing) for thing in things])
 
 
 def is_far(web, tie, other):
@@ -51,5 +62,4 @@ def is_corner(web, tie, other):
 def lets_link(web, thing):
     """Tell of anything whether it is a link of the web."""
     look_at_hanging(web)
-    beside = beside_all(web)
-    return makes_link(web, far_table(beside), beside, thing)
+    return are_links(web, [thing])

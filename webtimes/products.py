@@ -1,7 +1,7 @@
 """Products and powers of webs."""
 
 from webtimes.errors import TooBig
-from webtimes.rows import count_rows, count_ties, look_at_webs, numbered_row, row_number, tied_rows
+from webtimes.rows import count_rows, count_ties, look_at_webs
 from webtimes.webs import MOST_PLACES, MOST_TIES, look_at_web
 
 
@@ -14,13 +14,14 @@ def look_at_size(webs):
 def multiplied(webs):
     """Tell the product of webs that are looked at already, perhaps of more than twelve."""
     look_at_size(webs)
-    many = count_rows(webs)
+    many = 1
     ties = []
-    for one in range(many):
-        for row in tied_rows(webs, numbered_row(webs, one)):
-            other = row_number(webs, row)
-            if one < other:
-                ties.append((one, other))
+    for own_many, own_ties in webs:
+        # A row's number is that of its row of the webs so far, times this web's places, and its place in this one.
+        across = [(one * own_many + at, other * own_many + at) for one, other in ties for at in range(own_many)]
+        along = [(at * own_many + one, at * own_many + other) for at in range(many) for one, other in own_ties]
+        many = many * own_many
+        ties = sorted(across + along)
     return (many, ties)
 
 

@@ -21,7 +21,7 @@ def joins_places(many, thing):
     if not isinstance(thing, tuple) or len(thing) != 2:
         return False
     one, other = thing
-    return is_place(many, one) and is_place(many, other) and one < other
+    return is_whole(one) and is_whole(other) and 0 <= one < other < many
 
 
 def web_fault(thing):
