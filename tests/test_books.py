@@ -4,7 +4,7 @@ import unittest
 
 from samples import (
     ASUNDER, IN_PIECES, LADDER, NO_WEBS, ODD, SQUARE, Spiteful, bare, called_anew, check_fresh, check_kinds,
-    check_no_web, from_pairs, full, many_ties, path, petersen, product_by_words, ring, star, turned,
+    check_no_web, full, many_ties, path, petersen, product_by_words, ring, star, turned,
 )
 from webtimes.alike import alike
 from webtimes.books import look_at_book, sum_of, web_by
@@ -198,10 +198,12 @@ class WebBy(unittest.TestCase):
 
     def test_too_big(self):
         for book, terms in [
-            ([path(2)], [((0,), 41)]), ([path(2)], [((6,), 1)]), ([path(2)], [((24,), 1)]), ([path(2)], [((0,), 10 ** 59)]),
-            ([path(2)], [((0,), 9), ((5,), 1)]), ([path(2)], [((1,), 21)]), ([full(7)], [((1,), 6)]), ([full(7)], [((2,), 1)]),
-            ([full(4), full(5)], [((1, 1), 2)]), ([path(7)] + BOOKS[8], [((24, 24), 10 ** 59)]), ([full(6)], [((1,), 7)]),
-            ([path(2), full(7)], [((0, 1), 5), ((1, 0), 3)]), ([full(7), path(2)], [((0, 1), 1), ((1, 0), 5), ((1, 1), 10 ** 9)]),
+            ([path(2)], [((0,), 41)]), ([path(2)], [((6,), 1)]), ([path(2)], [((24,), 1)]),
+            ([path(2)], [((0,), 10 ** 59)]), ([path(2)], [((0,), 9), ((5,), 1)]), ([path(2)], [((1,), 21)]),
+            ([full(7)], [((1,), 6)]), ([full(7)], [((2,), 1)]), ([full(4), full(5)], [((1, 1), 2)]),
+            ([path(7)] + BOOKS[8], [((24, 24), 10 ** 59)]), ([full(6)], [((1,), 7)]),
+            ([path(2), full(7)], [((0, 1), 5), ((1, 0), 3)]),
+            ([full(7), path(2)], [((0, 1), 1), ((1, 0), 5), ((1, 1), 10 ** 9)]),
         ]:
             with self.assertRaises(TooBig):
                 web_by(book, Sum(terms, len(book)))

@@ -47,8 +47,8 @@ class LetsColours(unittest.TestCase):
     def test_anything_else(self):
         things = [
             [0, 1], [0, 1, 0, 1], [0, 0, 1], [0, 1, 1], (0, 1, 0), [0, 1, -1], [-1, 0, -1], [0, 1, True], [False, 1, 0],
-            [0, 1.0, 0], [0, "1", 0], [0, None, 0], [[0], 1, 0], "010", {0: 0, 1: 1, 2: 0}, range(3), [0, Spiteful(), 0],
-            [[0, 1, 0]], [0, [1], 0],
+            [0, 1.0, 0], [0, "1", 0], [0, None, 0], [[0], 1, 0], "010", {0: 0, 1: 1, 2: 0}, range(3),
+            [0, Spiteful(), 0], [[0, 1, 0]], [0, [1], 0],
         ]
         for thing in ODD + things:
             self.assertIs(lets_colours(path(3), thing), False)

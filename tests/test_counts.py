@@ -18,7 +18,9 @@ LISTS = [webs for webs in WEBS_LISTS if product_by_words(webs)[0] <= 40] + [
 BEYOND = [
     [path(3)] * 4, [ring(4), ring(3), path(4), bare(2)], [full(4), full(4), full(3)], [IN_PIECES, path(3), ring(4)],
 ]
-BIG = [path(40), many_ties(), ring(40), full(16), petersen(), bare(1), path(2), star(6), LADDER, path(3), ring(5), path(7)]
+BIG = [
+    path(40), many_ties(), ring(40), full(16), petersen(), bare(1), path(2), star(6), LADDER, path(3), ring(5), path(7),
+]
 
 
 def some_pairs(rows, seed):

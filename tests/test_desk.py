@@ -64,9 +64,10 @@ class Deeds(Refusing):
         desk = kept_desk(a=[path(2)], b=[path(3), ring(3)], none=[])
         for row, text in [
             ("times c a b", "2 0-1 * 3 0-1 1-2 * 3 0-1 0-2 1-2"), ("times c b a", "3 0-1 1-2 * 3 0-1 0-2 1-2 * 2 0-1"),
-            ("times c a", "2 0-1"), ("times c none", "none"), ("times c none none", "none"), ("times c a a", "2 0-1 * 2 0-1"),
-            ("times c c a", "2 0-1 * 2 0-1 * 2 0-1"), ("times c a none c", "2 0-1 * 2 0-1 * 2 0-1 * 2 0-1"),
-            ("times c none c", "2 0-1 * 2 0-1 * 2 0-1 * 2 0-1"), ("times new a", "2 0-1"),
+            ("times c a", "2 0-1"), ("times c none", "none"), ("times c none none", "none"),
+            ("times c a a", "2 0-1 * 2 0-1"), ("times c c a", "2 0-1 * 2 0-1 * 2 0-1"),
+            ("times c a none c", "2 0-1 * 2 0-1 * 2 0-1 * 2 0-1"), ("times c none c", "2 0-1 * 2 0-1 * 2 0-1 * 2 0-1"),
+            ("times new a", "2 0-1"),
         ]:
             check_kinds(self, desk.say(row), "ok")
             self.assertEqual(desk.say("show " + row.split(" ")[1]), text)
@@ -120,8 +121,10 @@ class Deeds(Refusing):
 
     def test_what_is_refused_or_asked_is_not_undone(self):
         desk = kept_desk(a=[path(2)], b=[bare(2)])
-        for row in ("keep a 2 1-0", "keep a", "times a x", "drop x", "factors b", "names now", "many b", "far a 3 3", "x",
-                    "times c a a a a a a a a a a a a a"):
+        for row in (
+            "keep a 2 1-0", "keep a", "times a x", "drop x", "factors b", "names now", "many b", "far a 3 3", "x",
+            "times c a a a a a a a a a a a a a",
+        ):
             with self.assertRaises((NoText, NoLine, NoName, Apart, NoPlace, TooBig)):
                 desk.say(row)
         for row in ("names", "show a", "places a", "factors a", "alike a a", "far a 0 1"):
@@ -211,7 +214,10 @@ class Answers(Refusing):
         self.assertEqual(desk.say("ways d 0,0,0,0,0,0,0,0,0,0,0,0 39,39,39,39,39,39,39,39,39,39,39,39"), many)
 
     def test_factors_and_prime(self):
-        lists = [[], [bare(1)], [path(2)], [LADDER], [SQUARE, petersen()], [path(3), path(2)], [many_ties()], [bare(1), path(3)]]
+        lists = [
+            [], [bare(1)], [path(2)], [LADDER], [SQUARE, petersen()], [path(3), path(2)], [many_ties()],
+            [bare(1), path(3)],
+        ]
         for webs in lists + [[path(2)] * 12, [SQUARE] * 6]:
             desk = kept_desk(a=webs)
             check_kinds(self, desk.say("factors a"), show_webs(primes_of(webs)))
@@ -233,7 +239,9 @@ class Answers(Refusing):
             self.check_refused(kept_desk(a=webs), TooBig, "many a")
 
     def test_alike(self):
-        lists = {"a": [SQUARE], "b": [path(2), path(2)], "c": [path(2)], "d": [LADDER], "e": [star(3), path(2)], "f": []}
+        lists = {
+            "a": [SQUARE], "b": [path(2), path(2)], "c": [path(2)], "d": [LADDER], "e": [star(3), path(2)], "f": [],
+        }
         desk = kept_desk(**lists)
         for one, ones in lists.items():
             for other, others in lists.items():
@@ -254,14 +262,18 @@ class NoLines(Refusing):
             self.check_refused(self.desk, NoLine, thing)
 
     def test_no_such_words(self):
-        for row in ("", " ", "x", "a", "keeps a 1", "Keep a 1", "KEEP a 1", "show", "shows a", "name", "name s", "names\n", "undo\t",
-                    "\nnames", "places", "primes a", "undos", "-", "ok", "none", "keep", "keep ", "keep  ", "times", "drop",
-                    "alike", "far", "ways", "factors", "prime", "many", "ties", "show\ta", "say a", "put a 0 1"):
+        for row in (
+            "", " ", "x", "a", "keeps a 1", "Keep a 1", "KEEP a 1", "show", "shows a", "name", "name s", "names\n",
+            "undo\t", "\nnames", "places", "primes a", "undos", "-", "ok", "none", "keep", "keep ", "keep  ", "times",
+            "drop", "alike", "far", "ways", "factors", "prime", "many", "ties", "show\ta", "say a", "put a 0 1",
+        ):
             self.check_refused(self.desk, NoLine, row)
 
     def test_a_word_too_few_or_too_many(self):
-        rows = ["undo", "names", "drop a", "show a", "places a", "ties a", "factors a", "prime a", "many a", "alike a b",
-                "far a 0 1", "ways a 0 1"]
+        rows = [
+            "undo", "names", "drop a", "show a", "places a", "ties a", "factors a", "prime a", "many a", "alike a b",
+            "far a 0 1", "ways a 0 1",
+        ]
         for row in rows:
             for more in (" a", " 0", " -", " ", "  ", " x y"):
                 self.check_refused(self.desk, NoLine, row + more)
@@ -274,7 +286,9 @@ class NoLines(Refusing):
             self.check_refused(self.desk, NoLine, row)
 
     def test_two_blanks(self):
-        for row in ("show  a", "far a  0 1", "far a 0  1", "far  a 0 1", "alike a  b", "keep  a 1", "keep  1", "drop  a"):
+        for row in (
+            "show  a", "far a  0 1", "far a 0  1", "far  a 0 1", "alike a  b", "keep  a 1", "keep  1", "drop  a",
+        ):
             self.check_refused(self.desk, NoLine, row)
 
     def test_keep_without_a_blank(self):
@@ -283,9 +297,11 @@ class NoLines(Refusing):
 
     def test_no_names(self):
         for name in NO_NAMES:
-            for row in ("keep {} 1", "keep {} ", "keep {} x", "times {} a", "times a {}", "times x y {}", "drop {}", "show {}",
-                        "places {}", "ties {}", "far {} 0 1", "ways {} 0 1", "factors {}", "prime {}", "many {}",
-                        "alike {} a", "alike a {}", "alike x {}"):
+            for row in (
+                "keep {} 1", "keep {} ", "keep {} x", "times {} a", "times a {}", "times x y {}", "drop {}", "show {}",
+                "places {}", "ties {}", "far {} 0 1", "ways {} 0 1", "factors {}", "prime {}", "many {}", "alike {} a",
+                "alike a {}", "alike x {}",
+            ):
                 self.check_refused(self.desk, NoLine, row.format(name))
 
     def test_no_rows(self):
@@ -302,9 +318,11 @@ class OtherRefusals(Refusing):
         self.desk = kept_desk(a=[path(2)], b=[path(3), ring(4)], c=[bare(2)], d=[path(8)], e=[path(8), bare(2)], f=[])
 
     def test_no_name(self):
-        for row in ("drop x", "show x", "places x", "ties x", "factors x", "prime x", "many x", "far x 0 1", "ways x 0 1",
-                    "alike x a", "alike a x", "alike x y", "alike x x", "times a x", "times x x", "times a a x", "times y x",
-                    "times a b x a", "times x x y", "times a x y", "times a a x x"):
+        for row in (
+            "drop x", "show x", "places x", "ties x", "factors x", "prime x", "many x", "far x 0 1", "ways x 0 1",
+            "alike x a", "alike a x", "alike x y", "alike x x", "times a x", "times x x", "times a a x", "times y x",
+            "times a b x a", "times x x y", "times a x y", "times a a x x",
+        ):
             self.check_no_name(self.desk, "x", row)
         # Ahead of NoPlace, Apart and TooBig.
         for row in ("far x 9 -", "alike c x", "alike d x", "times a" + " b" * 7 + " x", "alike x d", "ways x - 0"):
@@ -319,7 +337,9 @@ class OtherRefusals(Refusing):
                 for name in ("a", "x"):
                     error = self.check_refused(self.desk, NoText, f"keep {name} {text}")
                     self.assertIsInstance(error.part, int)
-        for text, part in [("", 0), (" 1", 0), ("1 * x", 1), (" * ".join(["1"] * 13), 12), ("1 * 2 1-0 * y", 1), ("1 * ", 1)]:
+        for text, part in [
+            ("", 0), (" 1", 0), ("1 * x", 1), (" * ".join(["1"] * 13), 12), ("1 * 2 1-0 * y", 1), ("1 * ", 1),
+        ]:
             self.assertEqual(self.check_refused(self.desk, NoText, "keep a " + text).part, part)
         self.assertEqual(self.desk.say("show a"), "2 0-1")
 
@@ -335,7 +355,9 @@ class OtherRefusals(Refusing):
                 self.check_refused(self.desk, NoPlace, f"{word} f {rows}")
 
     def test_apart_ahead_of_too_big(self):
-        for row in ("factors c", "prime c", "many c", "alike c a", "alike a c", "many e", "alike e d", "alike d e", "alike d c"):
+        for row in (
+            "factors c", "prime c", "many c", "alike c a", "alike a c", "many e", "alike e d", "alike d e", "alike d c",
+        ):
             self.check_refused(self.desk, Apart, row)
         self.desk.say("keep g " + show_webs([SQUARE] * 11 + [bare(2)]))
         self.check_refused(self.desk, Apart, "factors g")

@@ -89,7 +89,9 @@ class Finest(unittest.TestCase):
         check_kinds(self, finest(SQUARE), ([path(2), path(2)], [[0, 0], [1, 0], [0, 1], [1, 1]]))
         rows = [[0, 0, 0], [1, 0, 0], [1, 0, 1], [1, 1, 1], [0, 1, 1], [0, 1, 0]]
         check_kinds(self, finest(ring(6)), ([path(2)] * 3, rows))
-        check_kinds(self, finest(LADDER), ([path(2)] * 3, [[0, 0, 0], [1, 0, 0], [0, 1, 0], [1, 1, 0], [0, 1, 1], [1, 1, 1]]))
+        check_kinds(self, finest(LADDER), ([path(2)] * 3, [
+            [0, 0, 0], [1, 0, 0], [0, 1, 0], [1, 1, 0], [0, 1, 1], [1, 1, 1],
+        ]))
         for web in (ring(5), full(4), ring(3), petersen(), full(16), many_ties(), MORE[-2]):
             check_kinds(self, finest(web), ([web], [[place] for place in range(web[0])]))
         self.assertEqual(finest(path(40))[0], [path(2)] * 39)

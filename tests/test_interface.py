@@ -66,8 +66,8 @@ FUNCTIONS = {
 # For each class its file, what it is made of, and its methods with their arguments.
 CLASSES = {
     "Sum": ("sums", ["terms", "kinds=1"], {
-        "terms": [], "kinds": [], "added": ["other"], "multiplied": ["other"], "divided": ["other"], "__eq__": ["other"],
-        "__len__": [], "__repr__": [], "__str__": [],
+        "terms": [], "kinds": [], "added": ["other"], "multiplied": ["other"], "divided": ["other"],
+        "__eq__": ["other"], "__len__": [], "__repr__": [], "__str__": [],
     }),
     "Keeper": ("keeper", ["webs"], {
         "put": ["number", "web"], "take": ["number"], "flip": ["number", "one", "other"], "go": ["row"], "undo": [],

@@ -14,8 +14,8 @@ from webtimes.rows import places_of, rows_beside, rows_tied, ties_of
 from webtimes.texts import show_webs
 
 METHODS = [
-    "put", "take", "flip", "go", "undo", "webs", "stand", "places", "ties", "far_from", "beside", "by_distance", "primes",
-    "__eq__", "__len__", "__repr__", "__str__",
+    "put", "take", "flip", "go", "undo", "webs", "stand", "places", "ties", "far_from", "beside", "by_distance",
+    "primes", "__eq__", "__len__", "__repr__", "__str__",
 ]
 
 

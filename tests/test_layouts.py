@@ -100,9 +100,9 @@ class Layouts(unittest.TestCase):
             (two, tuple(good)), (two, [(0,), (1,)]), (two, [[0], [True]]), (two, [[False], [1]]), (two, [[0], [1.0]]),
             (two, [[0], [2]]), (two, [[0], [-1]]), (two, [[0], [1, 0]]), (two, [[0], []]), (two, [0, 1]), (two, None),
             (None, good), (path(2), good), ([[2, [(0, 1)]]], good), ([(2, [(1, 0)])], good), ([None], good), (two, {}),
-            ([], [[], []]), ([path(2), None], [[0, 0], [1, 0]]), (two, "01"), (two, [[0], Spiteful()]), (two, [[0], None]),
-            ([Spiteful()], good), (two, [[0], [Spiteful()]]), ([path(2)] * 500, good), {0: two, 1: good},
-            ([None] * 500, good), (two, [[0], [1]] * 500),
+            ([], [[], []]), ([path(2), None], [[0, 0], [1, 0]]), (two, "01"), (two, [[0], Spiteful()]),
+            (two, [[0], None]), ([Spiteful()], good), (two, [[0], [Spiteful()]]), ([path(2)] * 500, good),
+            {0: two, 1: good}, ([None] * 500, good), (two, [[0], [1]] * 500),
         ]
         for thing in ODD + things:
             self.assertIs(lets_layout(path(2), thing), False, repr(thing)[:200])

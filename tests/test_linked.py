@@ -41,8 +41,8 @@ class Bits(unittest.TestCase):
                     elif other in others:
                         common = set(tie) & set(other)
                         one, two = set(tie + other) - common
-                        near = [place for place in range(web[0]) if is_tied(web, one, place) and is_tied(web, two, place)]
-                        self.assertEqual(set(near), common)
+                        near = [place for place in range(web[0]) if is_tied(web, one, place)]
+                        self.assertEqual({place for place in near if is_tied(web, two, place)}, common)
 
     def test_three(self):
         for web in WEBS:

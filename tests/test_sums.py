@@ -47,7 +47,8 @@ def multiplied_by_words(one, other):
 
 
 def some_sum(chance, kinds, most_terms, most_power, most_many=3):
-    keys = {tuple(chance.randrange(most_power + 1) for _ in range(kinds)) for _ in range(chance.randrange(most_terms + 1))}
+    size = chance.randrange(most_terms + 1)
+    keys = {tuple(chance.randrange(most_power + 1) for _ in range(kinds)) for _ in range(size)}
     return Sum([(key, chance.randrange(1, most_many + 1)) for key in sorted(keys)], kinds)
 
 
@@ -135,7 +136,8 @@ class AsAnObject(unittest.TestCase):
         self.assertIs(one == Sum([((0, 1), 3), ((2, 0), 1)], 2), True)
         self.assertIs(one != Sum([((0, 1), 3), ((2, 0), 1)], 2), False)
         self.assertIs(one == copy.deepcopy(one), True)
-        for other in ([((0, 1), 3)], [((0, 1), 3), ((2, 0), 2)], [((0, 1), 3), ((2, 1), 1)], [], [((0, 1), 2), ((2, 0), 1)]):
+        first, last = ((0, 1), 3), ((2, 0), 1)
+        for other in ([], [first], [last], [first, ((2, 0), 2)], [first, ((2, 1), 1)], [((0, 1), 2), last]):
             self.assertIs(one == Sum(other, 2), False)
             self.assertIs(one != Sum(other, 2), True)
         for a, b in itertools.product(range(4), range(4)):
