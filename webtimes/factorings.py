@@ -34,7 +34,9 @@ def lets_factoring(web, thing):
     # As many ties on both sides: so where each tie has tied rows, no tied rows are left.
     if count_ties(webs) != len(ties):
         return False
-    return all([are_tied(webs, rows[one], rows[other]) for one, other in ties])
+    # The ties as keys, as they are asked for many times.
+    known = [(own_many, {tie: True for tie in own_ties}) for own_many, own_ties in webs]
+    return all([are_tied(known, rows[one], rows[other]) for one, other in ties])
 
 
 def own_factoring(webs):

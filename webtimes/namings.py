@@ -17,7 +17,8 @@ def makes_naming(one, other, thing):
     if other[0] != many or len(other[1]) != len(ties) or not has_each_place(many, thing):
         return False
     # As many ties on both sides: so where each leads to one, no tie of the other is left.
-    return all([as_tie(thing[here], thing[there]) in other[1] for here, there in ties])
+    known = {tie: True for tie in other[1]}
+    return all([as_tie(thing[here], thing[there]) in known for here, there in ties])
 
 
 def look_at_naming(one, other, thing):
